@@ -1,0 +1,1 @@
+"""Lateshares: whose is the lateness."""

@@ -1,0 +1,84 @@
+"""The rules for the package's files that can be seen by simple means: sizes, signs, imports, words."""
+
+import ast
+import pathlib
+import re
+import unittest
+
+PACKAGE = pathlib.Path(__file__).resolve().parent.parent / "lateshares"
+LIBRARY = {"math": {"gcd"}}
+BARRED = ["Enum", "Flag", "Generic", "NamedTuple", "Protocol", "dataclass", "enum", "namedtuple", "typing"]
+BUILTINS = {
+    "len", "range", "enumerate", "zip", "min", "max", "sum", "abs", "sorted", "reversed", "int", "str", "bool", "list",
+    "tuple", "dict", "set", "isinstance", "ord", "repr", "any", "all", "divmod", "ValueError", "LookupError", "KeyError",
+}
+
+
+def files():
+    return sorted(PACKAGE.glob("*.py"))
+
+
+def nodes(file, *kinds):
+    return [node for node in ast.walk(ast.parse(file.read_text())) if isinstance(node, kinds)]
+
+
+class Files(unittest.TestCase):
+    def test_the_folder_holds_files_alone(self):
+        names = [path.name for path in PACKAGE.iterdir() if path.name != "__pycache__"]
+        self.assertIn("__init__.py", names)
+        for name in names:
+            self.assertRegex(name, r"\A[a-z_0-9]+\.py\Z")
+
+    def test_sizes(self):
+        for file in files():
+            rows = file.read_text().split("\n")
+            self.assertLess(len(rows), 400, file.name)
+            self.assertLessEqual(max(len(row) for row in rows), 120, file.name)
+            for node in nodes(file, ast.FunctionDef):
+                self.assertLessEqual(node.end_lineno - node.lineno + 1, 40, (file.name, node.name))
+
+    def test_signs(self):
+        for file in files():
+            self.assertRegex(file.read_text(), r"\A[ -~\n]*\Z", file.name)
+
+    def test_words(self):
+        for file in files():
+            for node in nodes(file, ast.Name, ast.Attribute, ast.arg):
+                word = getattr(node, "id", None) or getattr(node, "attr", None) or node.arg
+                self.assertNotIn(word, BARRED + ["type"], file.name)
+            for word in BARRED:
+                self.assertIsNone(re.search(rf"\b{word}\b", file.read_text()), (file.name, word))
+
+
+class Code(unittest.TestCase):
+    def test_imports(self):
+        for file in files():
+            self.assertEqual(nodes(file, ast.Import), [], file.name)
+            for node in nodes(file, ast.ImportFrom):
+                self.assertEqual(node.level, 0)
+                for name in node.names:
+                    self.assertIsNone(name.asname)
+                    if not node.module.startswith("lateshares."):
+                        self.assertIn(name.name, LIBRARY.get(node.module, ()), file.name)
+
+    def test_no_numbers_with_a_point(self):
+        for file in files():
+            self.assertEqual(nodes(file, ast.Div), [], file.name)
+            self.assertFalse([node for node in nodes(file, ast.Constant) if isinstance(node.value, (float, complex))])
+
+    def test_statements(self):
+        barred = (ast.Global, ast.AsyncFunctionDef, ast.AsyncFor, ast.AsyncWith, ast.Await, ast.GeneratorExp)
+        for file in files():
+            self.assertEqual(nodes(file, *barred), [], file.name)
+
+    def test_builtins(self):
+        everything = dir(__builtins__) if not isinstance(__builtins__, dict) else list(__builtins__)
+        for file in files():
+            for node in nodes(file, ast.Name):
+                if node.id in everything:
+                    self.assertIn(node.id, BUILTINS, (file.name, node.id))
+                    self.assertIsInstance(node.ctx, ast.Load, (file.name, node.id))
+
+
+if __name__ == "__main__":
+    unittest.main()
