@@ -8,6 +8,8 @@ MOST_JOINS = 12
 MEETINGS = ("after", "last", "first")
 # These take a whole number, the hour, and one net.
 HOURED = ("not_before", "given_up")
+# Of these the greatest part counts; of first and given_up the least.
+LATEST = ("last", "not_before")
 
 
 def is_join(net):

@@ -6,7 +6,7 @@ import re
 import unittest
 
 PACKAGE = pathlib.Path(__file__).resolve().parent.parent / "lateshares"
-LIBRARY = {"math": {"gcd"}}
+LIBRARY = {"math": {"gcd", "lcm"}, "itertools": {"permutations"}}
 BARRED = ["Enum", "Flag", "Generic", "NamedTuple", "Protocol", "dataclass", "enum", "namedtuple", "typing"]
 BUILTINS = {
     "len", "range", "enumerate", "zip", "min", "max", "sum", "abs", "sorted", "reversed", "int", "str", "bool", "list",
@@ -60,6 +60,25 @@ class Code(unittest.TestCase):
                     self.assertIsNone(name.asname)
                     if not node.module.startswith("lateshares."):
                         self.assertIn(name.name, LIBRARY.get(node.module, ()), file.name)
+
+    def test_no_name_has_two_meanings(self):
+        for file in files():
+            imported = {name.name for node in nodes(file, ast.ImportFrom) for name in node.names}
+            assigned = {node.id for node in nodes(file, ast.Name) if isinstance(node.ctx, ast.Store)}
+            assigned |= {node.arg for node in nodes(file, ast.arg)}
+            assigned |= {node.name for node in nodes(file, ast.FunctionDef, ast.ClassDef) if node.col_offset == 0}
+            self.assertEqual(imported & assigned, set(), file.name)
+
+    def test_imports_go_one_way(self):
+        above = {}
+        for file in files():
+            modules = [node.module for node in nodes(file, ast.ImportFrom) if node.module.startswith("lateshares.")]
+            above[file.stem] = {module.split(".")[1] for module in modules}
+        while above:
+            ready = [name for name, needed in above.items() if not needed & set(above)]
+            self.assertNotEqual(ready, [], above)
+            for name in ready:
+                del above[name]
 
     def test_no_numbers_with_a_point(self):
         for file in files():
