@@ -7,8 +7,15 @@ reckoned in: so no little number need be made, and a length may be 0 and its slo
 
 from math import lcm
 
-from lateshares.fractions import NOUGHT
-from lateshares.nets import LATEST, parts_of
+from lateshares.fractions import NOUGHT, is_whole
+from lateshares.nets import LATEST, folded
+
+
+def is_order(thing, many):
+    """Whether anything is a tuple of all of so many works, each once."""
+    if not isinstance(thing, tuple) or not all([is_whole(one) for one in thing]):
+        return False
+    return sorted(thing) == list(range(many))
 
 
 def scale_of(numbers):
@@ -43,22 +50,27 @@ def mark_chosen(join, marks):
     return min(marks)
 
 
-def looked_at(net, works, rest):
-    """The mark of a net, and a list of its joins but after as they begin in the text, each with its parts' marks."""
-    word = net[0]
-    if word == "work":
-        return works[net[1]], []
-    if word == "rest":
-        return tuple([net[1] * one for one in rest]), []
-    marks = []
-    deeper = []
-    for one in parts_of(net):
-        mark, looks = looked_at(one, works, rest)
-        marks.append(mark)
-        deeper.extend(looks)
-    if word == "after":
-        return tuple([sum(column) for column in zip(*marks)]), deeper
-    return mark_chosen(net, marks), [(net, marks), *deeper]
+def looked_at(net, works, rest, choose):
+    """The mark of a net, and a list of its joins but after as they begin in the text.
+
+    Of each join its net is told, a list of its parts' marks, and the one among them that choose(join, marks) tells.
+    """
+    looks = []
+
+    def leaf(one):
+        if one[0] == "work":
+            return works[one[1]]
+        return tuple([one[1] * n for n in rest])
+
+    def joined(join, marks):
+        if join[0] == "after":
+            return tuple([sum(column) for column in zip(*marks)])
+        chosen = choose(join, marks)
+        looks.append((join, marks, chosen))
+        return chosen
+
+    mark = folded(net, leaf, joined)
+    return mark, looks[::-1]
 
 
 def followed(net, lengths, order):
@@ -66,9 +78,14 @@ def followed(net, lengths, order):
     return followed_along(net, lengths, tuple([NOUGHT for _ in lengths]), order)
 
 
+def counts_in(mark, order):
+    """How often a sum has each work, by its mark of such an order."""
+    counts = mark[2:]
+    return tuple([counts[order.index(work)] for work in range(len(order))])
+
+
 def followed_along(net, lengths, slopes, order):
     """How often each work is followed as the lengths begin to grow by these slopes."""
     works, rest = marks_of(lengths, slopes, order)
-    mark, _ = looked_at(net, works, rest)
-    counts = mark[2:]
-    return tuple([counts[order.index(work)] for work in range(len(lengths))])
+    mark, _ = looked_at(net, works, rest, mark_chosen)
+    return counts_in(mark, order)

@@ -8,8 +8,9 @@ MOST_JOINS = 12
 MEETINGS = ("after", "last", "first")
 # These take a whole number, the hour, and one net.
 HOURED = ("not_before", "given_up")
-# Of these the greatest part counts; of first and given_up the least.
+# Of these the greatest part counts, of those the least.
 LATEST = ("last", "not_before")
+EARLIEST = ("first", "given_up")
 
 
 def is_join(net):
@@ -59,14 +60,29 @@ def parts_of(net):
 
 
 def nets_in(net):
-    """A list of the net itself and of all parts in it, however deep."""
+    """A list of the net itself and of all parts in it, however deep, as they begin in the text."""
     found = []
     waiting = [net]
     while waiting:
         one = waiting.pop()
         found.append(one)
-        waiting.extend(parts_of(one))
+        waiting.extend(parts_of(one)[::-1])
     return found
+
+
+def folded(net, leaf, joined):
+    """What is told of a net: leaf(one) of works and rests, joined(join, told) of joins, by what is told of their parts.
+
+    The joins are asked about in turn, the one that begins last in the text first.
+    """
+    # No function calls itself here: nets made of nets again and again may be deeper than Python lets calls be.
+    told = []
+    for one in nets_in(net)[::-1]:
+        if is_join(one):
+            told.append(joined(one, [told.pop() for _ in parts_of(one)]))
+        else:
+            told.append(leaf(one))
+    return told[0]
 
 
 def joins_in(net):

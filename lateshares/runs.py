@@ -24,17 +24,16 @@ def lateness(net, plan, truth):
 
 
 def looks_along(net, lengths, slopes):
-    """A list of the joins but after, each with its parts' marks as lengths begin to grow, without little numbers."""
+    """A list of the joins but after, as looked_at tells, as lengths begin to grow, without little numbers."""
     works, rest = marks_of(lengths, slopes, ())
-    _, looks = looked_at(net, works, rest)
+    _, looks = looked_at(net, works, rest, mark_chosen)
     return looks
 
 
 def steps_on(net, lengths, slopes):
     """A list of how long each part that gains on a followed one needs to come up with it."""
     steps = []
-    for join, marks in looks_along(net, lengths, slopes):
-        followed = mark_chosen(join, marks)
+    for _, marks, followed in looks_along(net, lengths, slopes):
         for mark in marks:
             gap = followed[0] - mark[0]
             gain = mark[1] - followed[1]
@@ -54,16 +53,21 @@ def moments_of(net, plan, truth):
     return moments
 
 
-def stretches_by(moments, net, plan, truth, order):
-    """The stretches of a run whose moments_of are these."""
+def rows_along(moments, plan, truth, told):
+    """The tuple of (from, to, told(lengths, slopes)) between these moments, put together where it is told alike."""
     delays = delays_of(plan, truth)
     rows = []
     for begin, end in zip(moments, moments[1:]):
-        counts = followed_along(net, lengths_at(plan, truth, begin), delays, order)
-        if rows and rows[-1][2] == counts:
+        now = told(lengths_at(plan, truth, begin), delays)
+        if rows and rows[-1][2] == now:
             begin, _, _ = rows.pop()
-        rows.append((begin, end, counts))
+        rows.append((begin, end, now))
     return tuple(rows)
+
+
+def stretches_by(moments, net, plan, truth, order):
+    """The stretches of a run whose moments_of are these."""
+    return rows_along(moments, plan, truth, lambda lengths, slopes: followed_along(net, lengths, slopes, order))
 
 
 def stretches(net, plan, truth, order):

@@ -2,7 +2,6 @@
 
 from itertools import permutations
 
-from lateshares.following import mark_chosen
 from lateshares.fractions import greatest_of, least_of, minus, sum_of, times
 from lateshares.nets import parts_of, works_in
 from lateshares.runs import delays_of, lengths_at, looks_along, moments_of, stretches, stretches_by
@@ -27,28 +26,37 @@ def works_tied(moments, net, plan, truth):
     delays = delays_of(plan, truth)
     found = []
     for moment in moments[:-1]:
-        for join, marks in looks_along(net, lengths_at(plan, truth, moment), delays):
-            followed = mark_chosen(join, marks)
+        for join, marks, followed in looks_along(net, lengths_at(plan, truth, moment), delays):
             if marks.count(followed) > 1:
                 alike = [one for one, mark in zip(parts_of(join), marks) if mark == followed]
                 found.extend([work for one in alike for work in works_in(one)])
     return found
 
 
+def order_with(some, others):
+    """The first order, as tuples rise, in which some works stand in this row, of these and of rising other ones."""
+    found = []
+    left = list(others)
+    for work in some:
+        while left and left[0] < work:
+            found.append(left.pop(0))
+        found.append(work)
+    return tuple([*found, *left])
+
+
 def shares_by_order(net, plan, truth):
-    """A list of (order, shares) for all orders of the works, as the orders rise."""
+    """A list of (order, shares), as orders rise; of all orders in which the tied works stand alike the first alone."""
     delays = delays_of(plan, truth)
     moments = moments_of(net, plan, truth)
     tied = works_tied(moments, net, plan, truth)
-    known = {}
+    works = list(range(len(plan)))
+    others = [work for work in works if work not in tied]
     found = []
-    for order in permutations(range(len(plan))):
-        # Six works have 720 orders, mostly with few shares among them.
-        few = tuple([work for work in order if work in tied])
-        if few not in known:
-            known[few] = shares_in(stretches_by(moments, net, plan, truth, order), delays)
-        found.append((order, known[few]))
-    return found
+    # Nets behind one another may have twelve works, too many to go through all their orders; mostly few are tied.
+    for some in permutations([work for work in works if work in tied]):
+        order = order_with(some, others)
+        found.append((order, shares_in(stretches_by(moments, net, plan, truth, order), delays)))
+    return sorted(found)
 
 
 def ranges(net, plan, truth):

@@ -12,6 +12,12 @@ BUILTINS = {
     "len", "range", "enumerate", "zip", "min", "max", "sum", "abs", "sorted", "reversed", "int", "str", "bool", "list",
     "tuple", "dict", "set", "isinstance", "ord", "repr", "any", "all", "divmod", "ValueError", "LookupError", "KeyError",
 }
+# Methods of builtin values, as far as the package calls any.
+METHODS = {
+    "append", "count", "extend", "get", "index", "isalpha", "isascii", "isdigit", "islower", "items", "join", "partition",
+    "pop", "removeprefix", "replace", "split", "startswith", "values",
+}
+DOUBLE = {"__init__", "__eq__", "__len__"}
 
 
 def files():
@@ -89,6 +95,59 @@ class Code(unittest.TestCase):
         barred = (ast.Global, ast.AsyncFunctionDef, ast.AsyncFor, ast.AsyncWith, ast.Await, ast.GeneratorExp)
         for file in files():
             self.assertEqual(nodes(file, *barred), [], file.name)
+
+    def test_functions(self):
+        for file in files():
+            for node in nodes(file, ast.FunctionDef):
+                self.assertEqual(node.decorator_list, [], (file.name, node.name))
+                if node.name.startswith("__"):
+                    self.assertIn(node.name, DOUBLE, file.name)
+                self.assertIsNone(node.args.kwarg or node.args.vararg, (file.name, node.name))
+            for node in nodes(file, ast.ClassDef):
+                self.assertEqual(node.decorator_list, [], (file.name, node.name))
+
+    def test_methods(self):
+        own = {node.name for file in files() for node in nodes(file, ast.FunctionDef)}
+        for file in files():
+            for node in nodes(file, ast.Call):
+                if isinstance(node.func, ast.Attribute):
+                    self.assertIn(node.func.attr, METHODS | own, file.name)
+
+    def test_methods_are_no_attributes(self):
+        own = {node.name for file in files() for node in nodes(file, ast.FunctionDef)}
+        for file in files():
+            stored = {node.attr for node in nodes(file, ast.Attribute) if isinstance(node.ctx, ast.Store)}
+            self.assertEqual(stored & (own | METHODS | set(dir(dict)) | set(dir(str)) | set(dir(list))), set(), file.name)
+
+    def test_errors_are_caught_by_own_names(self):
+        own = {node.name for node in nodes(PACKAGE / "errors.py", ast.ClassDef)}
+        for file in files():
+            for node in nodes(file, ast.ExceptHandler):
+                self.assertIn(node.type.id, own, file.name)
+            for node in nodes(file, ast.Raise):
+                self.assertIn(node.exc.func.id, own, file.name)
+
+    def test_sets_stand_in_sorted_alone(self):
+        for file in files():
+            tree = ast.parse(file.read_text())
+            inside = [arg for node in ast.walk(tree) if isinstance(node, ast.Call) and getattr(node.func, "id", "") == "sorted"
+                      for arg in node.args]
+            for node in ast.walk(tree):
+                called = isinstance(node, ast.Call) and getattr(node.func, "id", "") in ("set", "frozenset")
+                if called or isinstance(node, (ast.Set, ast.SetComp)):
+                    self.assertIn(node, inside, file.name)
+
+    def test_texts(self):
+        for file in files():
+            for node in nodes(file, ast.Constant):
+                if isinstance(node.value, str):
+                    self.assertNotIn(chr(37), node.value, file.name)
+                    self.assertFalse(node.value.endswith(("._", ".__")), file.name)
+
+    def test_lambdas_stand_on_rows_of_their_own(self):
+        for file in files():
+            rows = [node.lineno for node in nodes(file, ast.Lambda)]
+            self.assertEqual(len(rows), len(set(rows)), file.name)
 
     def test_builtins(self):
         everything = dir(__builtins__) if not isinstance(__builtins__, dict) else list(__builtins__)
