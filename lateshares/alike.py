@@ -52,8 +52,8 @@ def are_weights(thing, many):
 
 def mixed(weights, lot, scale):
     """What such weights make of a lot's sums, so many times."""
-    columns = list(zip(*[column_of(one) for one in lot]))
-    return [sum([scaled(weight, scale) * n for weight, n in zip(weights, column)]) for column in columns]
+    rows = [column_of(one) for one in lot]
+    return [sum([scaled(weight, scale) * n for weight, n in zip(weights, column)]) for column in zip(*rows)]
 
 
 def is_mixture(thing, ones, others):

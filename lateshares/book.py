@@ -3,11 +3,10 @@
 from lateshares.alike import unlike_by
 from lateshares.errors import NoDeed, NoLengths, NoName, NoNet, NoOrder, NoRun, Twice, Unlike
 from lateshares.following import is_order
-from lateshares.fractions import sum_of
 from lateshares.hours import is_lengths
 from lateshares.nets import is_net
-from lateshares.runs import lateness
-from lateshares.sharing import shares
+from lateshares.runs import lateness_together
+from lateshares.sharing import shares_together
 
 MOST_LETTERS = 12
 
@@ -83,12 +82,11 @@ class Book:
 
     def shares(self):
         """For each work the sum of its shares in all runs."""
-        rows = [shares(net, plan, truth, self._order) for net, plan, truth in list(self._runs.values())]
-        return tuple([sum_of(tuple([row[work] for row in rows])) for work in range(self._many)])
+        return shares_together(list(self._runs.values()), self._many, self._order)
 
     def lateness(self):
         """The lateness of all runs together."""
-        return sum_of(tuple([lateness(net, plan, truth) for net, plan, truth in list(self._runs.values())]))
+        return lateness_together(list(self._runs.values()))
 
     def names(self):
         """The rising tuple of the names of all runs."""

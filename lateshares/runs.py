@@ -23,6 +23,11 @@ def lateness(net, plan, truth):
     return minus(hour(net, truth), hour(net, plan))
 
 
+def lateness_together(runs):
+    """The sum of the lateness of a list of runs (net, plan, truth)."""
+    return sum_of(tuple([lateness(net, plan, truth) for net, plan, truth in runs]))
+
+
 def looks_along(net, lengths, slopes):
     """A list of the joins but after, as looked_at tells, as lengths begin to grow, without little numbers."""
     works, rest = marks_of(lengths, slopes, ())

@@ -21,6 +21,12 @@ def shares(net, plan, truth, order):
     return shares_in(stretches(net, plan, truth, order), delays_of(plan, truth))
 
 
+def shares_together(runs, many, order):
+    """For each of so many works the sum of its shares in a list of runs (net, plan, truth)."""
+    rows = [shares(net, plan, truth, order) for net, plan, truth in runs]
+    return tuple([sum_of(tuple([row[work] for row in rows])) for work in range(many)])
+
+
 def works_tied(moments, net, plan, truth):
     """A list of the works in parts that are followed alike: the shares hang on the order of these alone."""
     delays = delays_of(plan, truth)
@@ -56,7 +62,7 @@ def shares_by_order(net, plan, truth):
     for some in permutations([work for work in works if work in tied]):
         order = order_with(some, others)
         found.append((order, shares_in(stretches_by(moments, net, plan, truth, order), delays)))
-    return sorted(found)
+    return found
 
 
 def ranges(net, plan, truth):

@@ -50,20 +50,20 @@ def worth(one, lengths):
 
 
 def row_let(net, ends, order, choices):
-    """How often works are followed by these choices, or None where they don't hold at the two ends of a row."""
+    """Whether these choices hold at the two ends of a row."""
     many = len(order)
     little = [Fraction(1, LESS ** (1 + order.index(work))) for work in range(many)]
     seen = []
-    counts, _ = put_together(net, iter(choices), many, seen)
+    put_together(net, iter(choices), many, seen)
     for word, chosen, sums in seen:
         sign = 1 if word in LEASTS else -1
         for other in sums:
             ahead = [sign * (worth(sums[chosen], lengths) - worth(other, lengths)) for lengths in ends]
             if min(ahead) < 0:
-                return None
+                return False
             if ahead == [0, 0] and sign * (worth((sums[chosen][0], 0), little) - worth((other[0], 0), little)) < 0:
-                return None
-    return counts
+                return False
+    return True
 
 
 def choices_let(thing, net):
@@ -91,18 +91,22 @@ def paper_let(net, plan, truth, order, thing):
     _, shares, rows = thing
     if type(shares) is not tuple or not all(is_fraction_told(one) for one in shares) or not rows_let(rows):
         return False
+    for begin, end, choices in rows:
+        ends = [at_moment(real(plan), real(truth), Fraction(*moment)) for moment in (begin, end)]
+        if not choices_let(choices, net) or not row_let(net, ends, order, choices):
+            return False
+    return shares == shares_put_together(net, plan, truth, rows)
+
+
+def shares_put_together(net, plan, truth, rows):
+    """The shares that rows come to by their choices, whether these hold or not."""
     totals = [Fraction(0)] * len(plan)
     for begin, end, choices in rows:
-        if not choices_let(choices, net):
-            return False
-        ends = [at_moment(real(plan), real(truth), Fraction(*moment)) for moment in (begin, end)]
-        counts = row_let(net, ends, order, choices)
-        if counts is None:
-            return False
+        counts, _ = put_together(net, iter(choices), len(plan), [])
         for work, count in enumerate(counts):
             late = Fraction(*truth[work]) - Fraction(*plan[work])
             totals[work] += (Fraction(*end) - Fraction(*begin)) * count * late
-    return real(shares) == totals
+    return tuple(one.as_integer_ratio() for one in totals)
 
 
 def choices_told(net, lengths, take):

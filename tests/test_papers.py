@@ -9,7 +9,8 @@ from lateshares.papers import paper, shows_shares
 from lateshares.sharing import shares
 from tests.anything import deep, things, told_of
 from tests.asked import Asked, runs_thrown, whole
-from tests.looker import is_fraction_told, joins_told, paper_let, rows_put_together
+from tests.looker import (choices_let, is_fraction_told, joins_told, paper_let, rows_let, rows_put_together,
+                          shares_put_together)
 from tests.made import A, B, C, NETS, R1, R2, Dice, all_runs, lengths_made, net_made, order_made
 from tests.trial import parts_told
 
@@ -132,6 +133,11 @@ class Rows(Papers):
         for rows in (((O, (3, 5), (0,)), ((3, 5), END, (1,))), ((O, (2, 5), (0,)), ((2, 5), END, (1,))),
                      ((O, END, (0,)),), ((O, END, (1,)),), ((O, HALF, (1,)), (HALF, END, (0,)))):
             self.check_let(run, ("shares", told, rows), False)
+            # Nor with the shares that these rows come to.
+            self.check_let(run, ("shares", shares_put_together(*run[:3], rows), rows), False)
+            first = ("first", *run[0][1:]), *run[1:]
+            wanted = rows == ((O, HALF, (1,)), (HALF, END, (0,)))
+            self.check_let(first, ("shares", shares_put_together(*first[:3], rows), rows), wanted)
 
     def test_alike_at_one_end_alone(self):
         # At 0 both are alike, B is longer then: A can't be followed, though the order has it ahead.
@@ -224,14 +230,20 @@ class Otherwise(Papers):
 
     def test_one_thing_otherwise(self):
         let = [0, 0]
-        for net, plan, truth, order in [RUN, *runs_thrown(25, 40, 4, 5, 4), *runs_thrown(26, 30, 4, 5, 2)]:
-            for thing in self.spoilt(paper(net, plan, truth, order), net):
-                wanted = paper_let(net, plan, truth, order, thing)
-                self.assertIs(shows_shares(net, plan, truth, order, thing), wanted, (net, plan, truth, order, thing))
-                if wanted:
-                    self.assertEqual(thing[1], shares(net, plan, truth, order))
-                let[wanted] += 1
+        for run in [RUN, *runs_thrown(25, 40, 4, 5, 4), *runs_thrown(26, 30, 4, 5, 2)]:
+            for thing in self.spoilt(paper(*run), run[0]):
+                let[self.check_spoilt(run, thing)] += 1
+                if rows_let(thing[2]) and all(choices_let(choices, run[0]) for _, _, choices in thing[2]):
+                    # With the shares that these rows come to.
+                    self.check_spoilt(run, ("shares", shares_put_together(*run[:3], thing[2]), thing[2]))
         self.assertGreater(min(let), 100)
+
+    def check_spoilt(self, run, thing):
+        wanted = paper_let(*run, thing)
+        self.assertIs(shows_shares(*run, thing), wanted, (run, thing))
+        if wanted:
+            self.assertEqual(thing[1], shares(*run))
+        return wanted
 
     def test_no_paper_of_other_shares(self):
         net, plan, truth, order = RUN

@@ -10,16 +10,13 @@ from lateshares.following import followed, followed_along
 from lateshares.fractions import is_fraction
 from lateshares.hours import hour
 from lateshares.runs import lateness, lengths_at, stretches, turns
+from tests.asked import whole
 from tests.made import A, ALIKE, B, C, NETS, R0, R1, R2, Dice, all_runs, lengths_made, net_made, order_made, plain
 from tests.trial import hour_told, pair, real, rows_told, turns_told
 
 ORDERS = list(permutations(range(3)))
 BIG = 10 ** 12 - 1
 HALF = (1, 2)
-
-
-def whole(*numbers):
-    return tuple((n, 1) for n in numbers)
 
 
 def runs_thrown(seed, many_runs, most_joins=6):

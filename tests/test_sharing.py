@@ -9,27 +9,13 @@ from lateshares import sharing
 from lateshares.fractions import is_fraction
 from lateshares.runs import lateness, stretches
 from lateshares.sharing import order_for, ranges, shares
-from tests.made import A, ALIKE, B, C, NETS, R1, R2, Dice, all_runs, lengths_made, net_made, order_made, plain
+from tests.asked import runs_thrown, whole
+from tests.made import A, ALIKE, B, C, NETS, R1, R2, all_runs, plain
 from tests.trial import all_shares, most_of, pair, real, shares_told
 
 ORDERS = list(permutations(range(3)))
 BIG = 10 ** 12 - 1
 D = ("work", 3)
-
-
-def whole(*numbers):
-    return tuple((n, 1) for n in numbers)
-
-
-def runs_thrown(seed, many_runs, most_works, most_joins, top=6):
-    """(net, plan, truth, order); the lower the top, the more is alike."""
-    dice = Dice(seed)
-    for k in range(many_runs):
-        many = 1 + k % most_works
-        net = net_made(dice, many, k % (most_joins + 1), top)
-        plan = lengths_made(dice, many, top, 1 + k % 3)
-        truth = lengths_made(dice, many, top, 1 + k % 2)
-        yield net, plan, truth, order_made(dice, many)
 
 
 class Asked(unittest.TestCase):
